@@ -1,0 +1,1 @@
+"""Bookpack: books that are edited, rearranged, packed and recovered."""
