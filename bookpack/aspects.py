@@ -55,10 +55,8 @@ def step_cost(token, other):
 
 
 def changes_between(index, token, other):
-    """The changes that make another token of the one at an index, where there is a step."""
+    """The changes that make another token of the one at an index, where there is a step to it."""
     aspects = ("code", "link", "slant", "strong") if token[0] == "char" else ("kind",)
-    if token == other:
-        return []
     return [
         (index, aspect, value_of(other, aspect))
         for aspect in aspects

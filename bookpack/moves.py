@@ -14,7 +14,8 @@ class Move:
         require_within("size", size, 0, MOST_TOKENS)
         require_within("start", start, 0, size)
         require_within("end", end, start, size)
-        _require_outside(to, start, end, size)
+        if not is_within(to, 0, size) or start < to < end:
+            raise BadNumber("to")
         self._size = size
         self._start = start
         self._end = end
@@ -107,12 +108,6 @@ def moving(chapter, gap, count, to):
     end = children_end(chapter, gap, count)
     if end is None:
         raise NoNode(gap)
-    _require_outside(to, gap, end, len(chapter))
     move = Move(len(chapter), gap, end, to)
     move(chapter)
     return move
-
-
-def _require_outside(to, start, end, size):
-    if not is_within(to, 0, size) or start < to < end:
-        raise BadNumber("to")

@@ -16,7 +16,7 @@ def conflict(patch, other):
 
 def rebased_pieces(patch, other, first):
     """The pieces of a patch over another one, where they do not conflict."""
-    pieces = []
+    made = []
     for start, end, tokens in patch.pieces:
         if start < end:
             low = other.carry(start, after=True)
@@ -24,12 +24,12 @@ def rebased_pieces(patch, other, first):
         else:
             low = other.carry(start, after=_goes_behind(other, start, first))
             high = low
-        if pieces and pieces[-1][1] == low:
-            before, _, put = pieces.pop()
-            pieces.append((before, high, put + tokens))
+        if made and made[-1][1] == low:
+            before, _, put = made.pop()
+            made.append((before, high, put + tokens))
         else:
-            pieces.append((low, high, tokens))
-    return tuple(pieces)
+            made.append((low, high, tokens))
+    return tuple(made)
 
 
 def rebased_changes(patch, other):

@@ -6,7 +6,7 @@ from functools import lru_cache
 from bookpack.differences import cost, difference, heights, least_cost, shows_least
 from bookpack.errors import BadChapter, TooLong
 from bookpack.patches import Patch
-from tests.making import BOXES, EXAMPLE, LINES, Case, an, ch, cl, im, joined, line, node, op, random_chapter
+from tests.making import BOXES, EXAMPLE, LINES, Case, an, ch, im, joined, line, node, random_chapter
 
 A, B = ch("a"), ch("b")
 
@@ -238,24 +238,16 @@ class ShowsLeast(Case):
                     self.assertIs(shows_least(one, other, patch, with_number(table, at, to, bool(number))), False)
 
     def test_numbers_below_0(self):
-        one, other = line("a"), line("b")
-        table = ((2, 1, -9, -9), (1, 2, -1, -9), (0, 1, 0, 1), (0, 0, 1, 0))
-        low = tuple(tuple(number if (at, to) == (3, 3) else -5 for to, number in enumerate(row))
-                    for at, row in enumerate(table))
-        self.assertIs(shows_least(one, other, difference(one, other), low), False)
-        expected = list(list(row) for row in heights(one, other))
-        expected[3][0] = -4
-        thing = tuple(tuple(row) for row in expected)
-        self.assertIs(shows_least(one, other, difference(one, other), thing), False)
-        expected = list(list(row) for row in heights(line("a"), line("a")))
-        expected[0][3] = -4
-        thing = tuple(tuple(row) for row in expected)
-        self.assertIs(shows_least(line("a"), line("a"), Patch(3), thing), False)
-        expected[0][3] = 3
-        expected[0][1] = 0
-        self.assertIs(shows_least(line("a"), line("a"), Patch(3), tuple(tuple(row) for row in expected)), True)
-        self.assertIs(shows_least((), line("a"), Patch(0, ((0, 0, line("a")),)), ((3, 2, 1, 0),)), True)
-        self.assertIs(shows_least((), line("a"), Patch(0, ((0, 0, line("a")),)), ((-3, -2, -1, 0),)), False)
+        one = line("a")
+        table = heights(one, one)
+        self.assertEqual((table[0][0], table[0][1]), (0, 1))
+        self.assertIs(shows_least(one, one, Patch(3), with_number(table, 0, 1, -1)), True)
+        self.assertIs(shows_least(one, one, Patch(3), with_number(table, 0, 1, -2)), False)
+        self.assertIs(shows_least(one, one, Patch(3), with_number(table, 1, 0, -1)), True)
+        self.assertIs(shows_least(one, one, Patch(3), with_number(table, 1, 0, -2)), False)
+        put = Patch(0, ((0, 0, one),))
+        self.assertIs(shows_least((), one, put, ((3, 2, 1, 0),)), True)
+        self.assertIs(shows_least((), one, put, ((-3, -2, -1, 0),)), False)
 
     def test_patches_that_do_not_lead_there(self):
         table = heights(self.ONE, self.OTHER)

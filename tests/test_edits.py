@@ -6,7 +6,7 @@ from bookpack.edits import delete, insert, join, rename, restyle, split, unwrap,
 from bookpack.errors import BadChapter, BadKind, BadLink, BadNumber, BadStyle, BadToken, NoNode
 from bookpack.patches import Patch
 from tests.making import (
-    BOXES, EXAMPLE, LINES, STRANGE, Case, an, ch, cl, im, joined, line, node, op, random_chapter, random_token,
+    BOXES, LINES, STRANGE, Case, an, ch, cl, im, joined, line, node, op, random_chapter, random_token,
 )
 from tests.test_spots import spots_of
 

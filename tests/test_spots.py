@@ -105,6 +105,11 @@ class Spots(Case):
         self.assertEqual((spot + 9995).steps, (3, 9999))
         self.assertEqual(spot.steps, (3, 4))
 
+    def test_add_no_integer(self):
+        for value in (True, False, 1.0, "1", None, Spot(1), (1,)):
+            with self.assertRaises(TypeError):
+                Spot(1) + value
+
     def test_add_beyond(self):
         for much in (9996, -5, 10**8):
             self.assertError(BadSpot, {"number": 1}, lambda: Spot(3, 4) + much)
