@@ -2,6 +2,7 @@
 
 BOX_KINDS = ("section", "quote", "list", "item")
 LINE_KINDS = ("head1", "head2", "head3", "para")
+HEAD_LEVELS = {"head1": 1, "head2": 2, "head3": 3}
 STYLES = ("code", "slant", "strong")
 MOST_OPEN = 12
 MOST_TOKENS = 2000
@@ -37,6 +38,11 @@ def is_link(value):
         return 1 <= len(rest) <= 20 and all([_is_plain(c) and c not in " <>&" for c in rest])
     key, _, name = value.partition("#")
     return is_id(key) and is_id(name)
+
+
+def is_text(value):
+    """Whether a string is text."""
+    return all([_is_plain(c) for c in value])
 
 
 def is_token(value):

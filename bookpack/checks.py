@@ -1,7 +1,7 @@
 """Checks of what is passed in, shared by the whole package."""
 
 from bookpack.chapters import first_bad
-from bookpack.errors import BadChapter, BadNumber
+from bookpack.errors import BadChapter, BadNumber, BadOrder
 
 
 def is_integer(value):
@@ -31,3 +31,15 @@ def require_chapter(chapter):
     index = first_bad(chapter)
     if index is not None:
         raise BadChapter(index)
+
+
+def different_ids(ids, known):
+    """The ids, each in a dict; refuses what is no tuple, and ids that are unknown or stand twice."""
+    if not isinstance(ids, tuple):
+        raise BadOrder(None)
+    seen = {}
+    for number, key in enumerate(ids):
+        if not isinstance(key, str) or key not in known or key in seen:
+            raise BadOrder(number)
+        seen[key] = True
+    return seen

@@ -2,7 +2,7 @@
 
 from bookpack.checks import is_integer, is_within, require_chapter, require_within
 from bookpack.errors import BadSpot, BadText, NoSpot
-from bookpack.trees import begins_node, children_end
+from bookpack.trees import begins_node, children_end, step_over
 
 MOST_STEP = 9999
 _DIGITS = "0123456789"
@@ -74,14 +74,7 @@ def spot_at(chapter, gap):
     require_within("gap", gap, 0, len(chapter))
     counts = [0]
     for index in range(gap):
-        word = chapter[index][0]
-        if word == "open":
-            counts.append(0)
-            continue
-        # A node counts as a child only once it is complete.
-        if word == "close":
-            counts.pop()
-        counts[-1] += 1
+        step_over(counts, chapter[index])
     return Spot(*counts)
 
 

@@ -39,6 +39,17 @@ def children_end(chapter, gap, count):
     return end
 
 
+def step_over(counts, token):
+    """Take the steps of the gap before a token, a list, to those of the gap behind it."""
+    if token[0] == "open":
+        counts.append(0)
+        return
+    # A node counts as a child only once it is complete.
+    if token[0] == "close":
+        counts.pop()
+    counts[-1] += 1
+
+
 def begins_node(chapter, gap):
     """Whether a node begins at a gap."""
     return gap < len(chapter) and chapter[gap][0] == "open"

@@ -2,6 +2,7 @@
 
 import unittest
 
+from bookpack.books import Book
 from bookpack.patches import Patch
 
 BOXES = ("section", "quote", "list", "item")
@@ -15,7 +16,7 @@ STRANGE = (True, False, 1.0, "1", b"1", [], {}, object(), -1)
 class Case(unittest.TestCase):
     """A test case that compares an error's class and fields as well."""
 
-    def assertError(self, error, fields, function, *args, **more):
+    def assertError(self, error, fields, function, /, *args, **more):
         with self.assertRaises(error) as caught:
             function(*args, **more)
         self.assertIs(type(caught.exception), error)
@@ -59,6 +60,7 @@ def joined(*parts):
     return tuple(token for part in parts for token in part)
 
 
+FIELDS = (("identifier", "urn:1"), ("language", "en"), ("title", "A Book"))
 EXAMPLE = (op("head1"), an("top"), ch("A"), cl("head1"), op("list"), cl("list"))
 
 
@@ -155,3 +157,78 @@ def applied(patch, tokens):
             # What was put is a tuple of tokens, and a token begins with its word.
             made.extend([part] if part and isinstance(part[0], str) else part)
     return tuple(made)
+
+
+def book_of(items, slots=None, contents=(), fields=None, **others):
+    """A book of these chapters, given by their ids, and of these parts; without slots all chapters are main ones."""
+    rows = tuple((key, "chapter", tokens, None) for key, tokens in items.items())
+    rows = rows + tuple((key, *row) for key, row in others.items())
+    if slots is None:
+        slots = tuple((key, True) for key in items)
+    return Book(fields=FIELDS if fields is None else fields, items=rows, slots=slots, contents=contents)
+
+
+def random_ids(chance, count):
+    """Different random ids, some of them so long that fresh ones are shortened."""
+    stems = ["a", "b", "c2", "d", "e9", "f", "abcdefghijkl", "abcdefghijklm", "abcdefghijkl2", "abcdefghijklmnop"]
+    return chance.sample(stems, count)
+
+
+def random_rows(chance, tokens, count):
+    """A chapter's tokens with at most count anchors of different names, and with no images and links."""
+    names = chance.sample(("a", "b", "c", "top", "top2", "abcdefghijklmn", "abcdefghijkl2", "x1"), count)
+    rows = []
+    for token in tokens:
+        if token[0] == "char":
+            rows.append(token[:3] + (None,))
+        elif token[0] != "anchor" and token[0] != "image":
+            rows.append(token)
+        elif names:
+            rows.append(("anchor", names.pop()))
+    return rows
+
+
+def random_book(chance):
+    """A random book without defects."""
+    ids = random_ids(chance, chance.randint(1, 8))
+    many = chance.randint(1, len(ids))
+    others = ids[many:]
+    chapters = {key: random_rows(chance, random_chapter(chance, 4), chance.randint(0, 5)) for key in ids[:many]}
+    # Fallbacks lead to what stands before, so that there are no rings.
+    fallbacks = {key: chance.choice((None, *ids[:ids.index(key)])) for key in others}
+    leading = list(chapters)
+    for key in others:
+        if fallbacks[key] in leading:
+            leading.append(key)
+    slots = chance.sample(leading, chance.randint(1, len(leading)))
+    places = [
+        (number, index, key + "#" + token[1])
+        for number, key in enumerate(slots)
+        for index, token in enumerate(chapters.get(key, ()))
+        if token[0] == "anchor"
+    ]
+    links = [link for _, _, link in places] + ["out:x", None, None]
+    items = [(key, "chapter", tuple(random_filling(chance, rows, links, others)), None) for key, rows in chapters.items()]
+    items = items + [(key, chance.choice(("figure", "scene")), "text", fallbacks[key]) for key in others]
+    chance.shuffle(items)
+    contents = []
+    for _, _, link in sorted(chance.sample(places, chance.randint(0, len(places)))):
+        most = contents[-1][0] + 1 if contents else 0
+        contents.append((chance.randint(0, most), chance.choice(("One", "Two")), link))
+    mains = [chance.random() < 0.6 for _ in slots]
+    mains[chance.randrange(len(mains))] = True
+    return Book(fields=FIELDS, items=tuple(items), slots=tuple(zip(slots, mains)), contents=tuple(contents))
+
+
+def random_filling(chance, rows, links, others):
+    """The tokens with some random links, and with images behind some chars."""
+    link = None
+    for token in rows:
+        if token[0] != "char":
+            yield token
+            continue
+        if chance.random() < 0.5:
+            link = chance.choice(links)
+        yield token[:3] + (link,)
+        if others and chance.random() < 0.2:
+            yield ("image", chance.choice(others))

@@ -105,8 +105,8 @@ class Language(unittest.TestCase):
     def test_statements(self):
         for name, row in nodes(ast.stmt):
             self.assertIsInstance(row, STATEMENTS, (name, row.lineno))
-        for kind in (ast.Lambda, ast.GeneratorExp, ast.Set, ast.SetComp, ast.NamedExpr, ast.JoinedStr, ast.Yield, ast.Div,
-                     ast.Mod, ast.Await):
+        for kind in (ast.Lambda, ast.GeneratorExp, ast.Set, ast.SetComp, ast.NamedExpr, ast.JoinedStr, ast.YieldFrom, ast.Div,
+                     ast.Await):
             self.assertEqual([(name, found) for name, found in nodes(kind)], [])
 
     def test_functions(self):
