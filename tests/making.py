@@ -193,7 +193,10 @@ def random_book(chance):
     ids = random_ids(chance, chance.randint(1, 8))
     many = chance.randint(1, len(ids))
     others = ids[many:]
-    chapters = {key: random_rows(chance, random_chapter(chance, 4), chance.randint(0, 5)) for key in ids[:many]}
+    chapters = {}
+    for key in ids[:many]:
+        tokens = joined(*[random_chapter(chance, 4) for _ in range(chance.randint(0, 3))])
+        chapters[key] = random_rows(chance, tokens, chance.randint(0, 5))
     # Fallbacks lead to what stands before, so that there are no rings.
     fallbacks = {key: chance.choice((None, *ids[:ids.index(key)])) for key in others}
     leading = list(chapters)
