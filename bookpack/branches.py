@@ -49,7 +49,7 @@ def _chapters(chapter, branch, side):
         if not isinstance(patch, Patch):
             raise BadBranch(side, number)
         try:
-            made.append(patch(made[-1]))
+            made.append(patch.made_of(made[-1]))
         except BookError:
             raise BadBranch(side, number) from None
     return made
@@ -67,7 +67,7 @@ def _through(chapter, patch, row, first):
         try:
             after = across.rebase(down)
             down = down.rebase(across, first=True)
-            corner = after(corner)
+            corner = after.made_of(corner)
         except Conflict as e:
             raise Clash(first, second, e.place) from None
         except BadChapter:

@@ -10,16 +10,16 @@ MOST_TOKENS = 2000
 _LETTERS = "abcdefghijklmnopqrstuvwxyz"
 _LETTERS_AND_DIGITS = "abcdefghijklmnopqrstuvwxyz0123456789"
 _PERCENT = 37
-_STYLE_ROWS = (
-    (),
-    ("code",),
-    ("slant",),
-    ("strong",),
-    ("code", "slant"),
-    ("code", "strong"),
-    ("slant", "strong"),
-    ("code", "slant", "strong"),
-)
+_STYLE_ROWS = {
+    (): True,
+    ("code",): True,
+    ("slant",): True,
+    ("strong",): True,
+    ("code", "slant"): True,
+    ("code", "strong"): True,
+    ("slant", "strong"): True,
+    ("code", "slant", "strong"): True,
+}
 
 
 def is_id(value):
@@ -73,18 +73,61 @@ def first_bad(value):
     """Where a value stops being the beginning of a chapter: None for a chapter, -1 for no tuple."""
     if not isinstance(value, tuple):
         return -1
-    kinds = []
-    for index, token in enumerate(value):
-        if not is_token(token) or not _can_stand(token, kinds):
-            return index
-        if token[0] == "open":
+    count = count_tokens(value)
+    place = first_misplaced(value[:count])
+    return count if place is None and count < len(value) else place
+
+
+def first_misplaced(tokens):
+    """Where a row of what are tokens stops being the beginning of a chapter; None for a chapter."""
+    kinds = [None]
+    # Glyphs can stand at the indexes below this one: at none outside of lines.
+    end = 0
+    for index, token in enumerate(tokens):
+        word = token[0]
+        if word == "char":
+            if index >= end:
+                return index
+        elif word == "open":
+            # Every open node still needs a close token.
+            if not _can_open(token[1], kinds) or index + 1 + len(kinds) > MOST_TOKENS:
+                return index
             kinds.append(token[1])
-        elif token[0] == "close":
+            end = MOST_TOKENS - len(kinds) + 1 if token[1] in LINE_KINDS else 0
+        elif word == "close":
+            if token[1] != kinds[-1]:
+                return index
             kinds.pop()
-        # Every open node still needs a close token.
-        if index + 1 + len(kinds) > MOST_TOKENS:
+            end = 0
+        elif index >= end:
             return index
-    return len(value) if kinds else None
+    return len(tokens) if len(kinds) > 1 else None
+
+
+def count_tokens(value):
+    """How many elements of a tuple, from the first one on, are tokens."""
+    # Chapters are long and hold few different characters and links, so that each of these is looked at once.
+    characters = {}
+    links = {}
+    for index, token in enumerate(value):
+        if isinstance(token, tuple) and len(token) == 4:
+            word, c, styles, link = token
+            if (
+                isinstance(c, str)
+                and c in characters
+                and isinstance(styles, tuple)
+                and (not styles or _are_styles(styles))
+                and (link is None or (isinstance(link, str) and link in links))
+                and isinstance(word, str)
+                and word == "char"
+            ):
+                continue
+        if not is_token(token):
+            return index
+        if token[0] == "char":
+            characters[token[1]] = True
+            links[token[3]] = True
+    return len(value)
 
 
 def _is_plain(c):
@@ -94,24 +137,21 @@ def _is_plain(c):
 def _is_char(c, styles, link):
     if not isinstance(c, str) or len(c) != 1 or not _is_plain(c):
         return False
-    if not _are_styles(styles):
+    if not isinstance(styles, tuple) or not _are_styles(styles):
         return False
     return link is None or is_link(link)
 
 
-def _are_styles(value):
-    if not isinstance(value, tuple):
-        return False
-    return all([isinstance(word, str) for word in value]) and value in _STYLE_ROWS
+def _are_styles(words):
+    for word in words:
+        if not isinstance(word, str):
+            return False
+    return words in _STYLE_ROWS
 
 
-def _can_stand(token, kinds):
-    """Whether a token can stand where nodes of these kinds are open, from the outside in."""
-    inner = kinds[-1] if kinds else None
-    if token[0] == "close":
-        return token[1] == inner
-    if token[0] != "open":
-        return inner in LINE_KINDS
-    if len(kinds) == MOST_OPEN or inner in LINE_KINDS:
+def _can_open(kind, kinds):
+    """Whether a node of a kind can begin in nodes of these kinds, from the outside in, None standing for the top."""
+    inner = kinds[-1]
+    if len(kinds) > MOST_OPEN or inner in LINE_KINDS:
         return False
-    return (token[1] == "item") == (inner == "list")
+    return (kind == "item") == (inner == "list")

@@ -1,7 +1,8 @@
 """Checks of what is passed in, shared by the whole package."""
 
-from bookpack.chapters import first_bad
+from bookpack.chapters import MOST_TOKENS, first_bad, first_misplaced
 from bookpack.errors import BadChapter, BadNumber, BadOrder
+from bookpack.trees import keeps_nodes
 
 
 def is_integer(value):
@@ -29,6 +30,16 @@ def require_from(name, value, low):
 def require_chapter(chapter):
     """Refuse a value that is no chapter."""
     index = first_bad(chapter)
+    if index is not None:
+        raise BadChapter(index)
+
+
+def require_made(chapter, made, pieces, changes):
+    """Refuse what pieces and changes make of a chapter, if it is none."""
+    # Most edits touch glyphs alone: then there is no need to go through a long chapter once more.
+    if len(made) <= MOST_TOKENS and keeps_nodes(chapter, pieces, changes):
+        return
+    index = first_misplaced(made)
     if index is not None:
         raise BadChapter(index)
 

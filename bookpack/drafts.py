@@ -50,11 +50,11 @@ class Draft:
     def do(self, key, edit):
         """Edit a chapter by a patch or a move."""
         chapter = self._book.chapter(key)
-        made = edit(chapter)
+        made = edit.made_of(chapter)
         if isinstance(edit, Move):
-            row = (key, edit, edit.undo(), edit.patch(chapter))
+            row = (key, edit, edit.undo(), edit.patch_of(chapter))
         else:
-            row = (key, edit, edit.undo(chapter), edit)
+            row = (key, edit, edit.undo_of(chapter), edit)
         self._take(key, edit, made)
         self._later = ()
         if self._group is None:
@@ -69,7 +69,7 @@ class Draft:
             return False
         step = self._done[-1]
         for key, edit, back, patch in step[::-1]:
-            self._take(key, back, back(self._book.chapter(key)))
+            self._take(key, back, back.made_of(self._book.chapter(key)))
         self._done = self._done[:-1]
         self._later = self._later + (step,)
         return True
@@ -81,7 +81,7 @@ class Draft:
             return False
         step = self._later[-1]
         for key, edit, back, patch in step:
-            self._take(key, edit, edit(self._book.chapter(key)))
+            self._take(key, edit, edit.made_of(self._book.chapter(key)))
         self._later = self._later[:-1]
         self._done = self._done + (step,)
         return True
@@ -182,7 +182,7 @@ def _require_steps(book, steps, side):
             raise BadBranch(side, number)
         key, patch = step
         try:
-            now = now.with_known(key, patch(now.chapter(key)))
+            now = now.with_known(key, patch.made_of(now.chapter(key)))
         except BookError:
             raise BadBranch(side, number) from None
 

@@ -1,10 +1,10 @@
 """Edits: each makes a patch for a chapter, and refuses one whose result is no chapter."""
 
 from bookpack.aspects import value_of
-from bookpack.chapters import STYLES, is_link, is_token, sort_of
+from bookpack.chapters import STYLES, count_tokens, is_link, sort_of
 from bookpack.checks import require_chapter, require_from, require_within
 from bookpack.errors import BadKind, BadLink, BadStyle, BadToken, NoNode
-from bookpack.patches import Patch
+from bookpack.patches import known_patch
 from bookpack.trees import begins_node, child_end, children_end, nodes_at
 
 
@@ -13,9 +13,9 @@ def insert(chapter, gap, tokens):
     _require_gap(chapter, gap)
     if not isinstance(tokens, tuple):
         raise BadToken(None)
-    for index, token in enumerate(tokens):
-        if not is_token(token):
-            raise BadToken(index)
+    count = count_tokens(tokens)
+    if count < len(tokens):
+        raise BadToken(count)
     return _checked(chapter, ((gap, gap, tokens),) if tokens else (), ())
 
 
@@ -109,7 +109,8 @@ def restyle(chapter, start, end, *, link="same", **styles):
         for aspect in aspects
         if value_of(chapter[index], aspect) != values[aspect]
     ]
-    return _checked(chapter, (), tuple(changes))
+    # A chapter stays one, whatever the styles and links of its chars are.
+    return known_patch(len(chapter), (), tuple(changes))
 
 
 def _require_gap(chapter, gap):
@@ -147,6 +148,6 @@ def _kind_changes(chapter, indexes, kind):
 
 def _checked(chapter, pieces, changes):
     """The patch of these pieces and changes, if it makes a chapter."""
-    patch = Patch(len(chapter), pieces, changes)
-    patch(chapter)
+    patch = known_patch(len(chapter), pieces, changes)
+    patch.made_of(chapter)
     return patch

@@ -1,9 +1,9 @@
 """Moves: they take a run of tokens to another gap."""
 
 from bookpack.chapters import MOST_TOKENS
-from bookpack.checks import is_within, require_chapter, require_from, require_within
+from bookpack.checks import is_within, require_chapter, require_from, require_made, require_within
 from bookpack.errors import BadNumber, Misfit, NoNode
-from bookpack.patches import Patch
+from bookpack.patches import known_patch
 from bookpack.trees import children_end
 
 
@@ -44,6 +44,10 @@ class Move:
     def __call__(self, chapter):
         """The chapter that the move makes of another one."""
         require_chapter(chapter)
+        return self.made_of(chapter)
+
+    def made_of(self, chapter):
+        """The same as the move called, for what is known to be a chapter."""
         if len(chapter) != self._size:
             raise Misfit(None)
         taken = chapter[self._start:self._end]
@@ -53,7 +57,7 @@ class Move:
             made = chapter[:self._start] + chapter[self._end:self._to] + taken + chapter[self._to:]
         else:
             made = chapter
-        require_chapter(made)
+        require_made(chapter, made, ((self._start, self._end, ()), (self._to, self._to, taken)), ())
         return made
 
     def undo(self):
@@ -75,14 +79,18 @@ class Move:
     def patch(self, chapter):
         """The patch that removes the tokens and puts them where the move takes them."""
         self(chapter)
+        return self.patch_of(chapter)
+
+    def patch_of(self, chapter):
+        """The same as patch, for a chapter that is known to be moved to another one."""
         start = self._start
         end = self._end
         to = self._to
         if start == end or to == start or to == end:
-            return Patch(self._size)
+            return known_patch(self._size, (), ())
         cut = (start, end, ())
         put = (to, to, chapter[start:end])
-        return Patch(self._size, (put, cut) if to < start else (cut, put))
+        return known_patch(self._size, (put, cut) if to < start else (cut, put), ())
 
     def _new_index(self, index):
         """Where the token at an index is after the move."""
@@ -109,5 +117,5 @@ def moving(chapter, gap, count, to):
     if end is None:
         raise NoNode(gap)
     move = Move(len(chapter), gap, end, to)
-    move(chapter)
+    move.made_of(chapter)
     return move

@@ -1,8 +1,8 @@
 """Patches: they change chapters, carry gaps, and are joined and rebased."""
 
 from bookpack.aspects import ASPECTS, takes, value_of
-from bookpack.chapters import MOST_TOKENS, is_token
-from bookpack.checks import is_within, require_chapter, require_within
+from bookpack.chapters import MOST_TOKENS, count_tokens
+from bookpack.checks import is_within, require_chapter, require_made, require_within
 from bookpack.errors import BadPatch, Conflict, Misfit
 from bookpack.rebasing import conflict, rebased_changes, rebased_pieces
 from bookpack.splicing import changed, joined, spliced
@@ -16,10 +16,7 @@ class Patch:
             raise BadPatch("size", None)
         _require_pieces(size, pieces)
         _require_changes(size, pieces, changes)
-        self._size = size
-        self._pieces = pieces
-        self._changes = changes
-        self._new_size = size + sum([len(tokens) - (end - start) for start, end, tokens in pieces])
+        self._fill(size, pieces, changes)
 
     @property
     def size(self):
@@ -55,15 +52,24 @@ class Patch:
     def __call__(self, chapter):
         """The chapter that the patch makes of another one."""
         require_chapter(chapter)
+        return self.made_of(chapter)
+
+    def made_of(self, chapter):
+        """The same as the patch called, for what is known to be a chapter."""
         if len(chapter) != self._size:
             raise Misfit(None)
         made = tuple(spliced(changed(chapter, self._changes), self._pieces))
-        require_chapter(made)
+        require_made(chapter, made, self._pieces, self._changes)
         return made
 
     def undo(self, chapter):
         """The patch that leads back to a chapter from what this one makes of it."""
-        made = self(chapter)
+        require_chapter(chapter)
+        return self.undo_of(chapter)
+
+    def undo_of(self, chapter):
+        """The same as undo, for what is known to be a chapter."""
+        made = self.made_of(chapter)
         pieces = []
         for start, end, tokens in self._pieces:
             low = self.carry(start)
@@ -73,18 +79,17 @@ class Patch:
             for index, aspect, value in self._changes
             if value_of(chapter[index], aspect) != value
         ]
-        return Patch(len(made), tuple(pieces), tuple(changes))
+        return known_patch(len(made), tuple(pieces), tuple(changes))
 
     def carry(self, gap, after=False):
         """Where a gap is after the patch; with after, behind what was put there."""
         require_within("gap", gap, 0, self._size)
-        shift = 0
-        for start, end, tokens in self._pieces:
-            if gap < start:
-                break
-            if gap <= end:
+        number = self._piece_at(gap)
+        shift = self._shifts[number]
+        if number < len(self._pieces):
+            start, end, tokens = self._pieces[number]
+            if start <= gap:
                 return start + shift + (len(tokens) if after is True else 0)
-            shift += len(tokens) - (end - start)
         return gap + shift
 
     def carry_range(self, start, end):
@@ -102,7 +107,7 @@ class Patch:
         if other.size != self._new_size:
             raise Misfit(None)
         pieces, changes = joined(self, other)
-        return Patch(self._size, pieces, changes)
+        return known_patch(self._size, pieces, changes)
 
     def rebase(self, other, *, first=False):
         """The patch that does after the other one what this one does without it."""
@@ -111,7 +116,38 @@ class Patch:
         place = conflict(self, other)
         if place is not None:
             raise Conflict(place)
-        return Patch(other.new_size, rebased_pieces(self, other, first), rebased_changes(self, other))
+        if other.new_size > MOST_TOKENS:
+            raise BadPatch("size", None)
+        return known_patch(other.new_size, rebased_pieces(self, other, first), rebased_changes(self, other))
+
+    def _fill(self, size, pieces, changes):
+        self._size = size
+        self._pieces = pieces
+        self._changes = changes
+        # How far the gaps behind so many pieces are shifted.
+        self._shifts = [0]
+        for start, end, tokens in pieces:
+            self._shifts.append(self._shifts[-1] + len(tokens) - (end - start))
+        self._new_size = size + self._shifts[-1]
+
+    def _piece_at(self, gap):
+        """The number of the first piece that does not end before a gap; their number, if all do."""
+        low = 0
+        high = len(self._pieces)
+        while low < high:
+            middle = (low + high) // 2
+            if self._pieces[middle][1] < gap:
+                low = middle + 1
+            else:
+                high = middle
+        return low
+
+
+def known_patch(size, pieces, changes):
+    """The patch of what is known to be as it has to be."""
+    patch = Patch(size)
+    patch._fill(size, pieces, changes)
+    return patch
 
 
 def _require_pieces(size, pieces):
@@ -132,7 +168,7 @@ def _is_piece(piece, least, size):
     start, end, tokens = piece
     if not is_within(start, least, size) or not is_within(end, start, size):
         return False
-    if not isinstance(tokens, tuple) or not all([is_token(token) for token in tokens]):
+    if not isinstance(tokens, tuple) or count_tokens(tokens) < len(tokens):
         return False
     return start < end or len(tokens) > 0
 

@@ -5,7 +5,7 @@ def conflict(patch, other):
     """The least index or gap at which two patches conflict; None if they do not."""
     ours = _owners(patch)
     theirs = _owners(other)
-    places = [index for index in range(patch.size) if ours[index] >= 0 and theirs[index] >= 0]
+    places = [index for index in ours if index in theirs]
     places.extend(_parted(patch, theirs))
     places.extend(_parted(other, ours))
     places.extend(_lost(patch, theirs))
@@ -16,13 +16,16 @@ def conflict(patch, other):
 
 def rebased_pieces(patch, other, first):
     """The pieces of a patch over another one, where they do not conflict."""
+    starts = {end: start for start, end, _ in other.pieces}
     made = []
     for start, end, tokens in patch.pieces:
         if start < end:
             low = other.carry(start, after=True)
             high = other.carry(end)
         else:
-            low = other.carry(start, after=_goes_behind(other, start, first))
+            # Behind what the other patch puts for the tokens before the gap, or without removing any, as first tells.
+            is_behind = start in starts and (starts[start] < start or first is not True)
+            low = other.carry(start, after=is_behind)
             high = low
         if made and made[-1][1] == low:
             before, _, put = made.pop()
@@ -43,23 +46,9 @@ def rebased_changes(patch, other):
     return tuple(changes)
 
 
-def _goes_behind(other, gap, first):
-    """Whether what is put at a gap goes behind what the other patch puts where it touches the gap."""
-    for start, end, _ in other.pieces:
-        if start == end == gap:
-            return first is not True
-        if end == gap:
-            return True
-    return False
-
-
 def _owners(patch):
-    """For each token the number of the piece that removes it, or -1."""
-    owners = [-1] * patch.size
-    for number, (start, end, _) in enumerate(patch.pieces):
-        for index in range(start, end):
-            owners[index] = number
-    return owners
+    """For each token that a patch removes the number of the piece."""
+    return {index: number for number, (start, end, _) in enumerate(patch.pieces) for index in range(start, end)}
 
 
 def _parted(patch, owners):
@@ -67,13 +56,13 @@ def _parted(patch, owners):
     return [
         start
         for start, end, _ in patch.pieces
-        if start == end and 0 < start < len(owners) and owners[start] >= 0 and owners[start - 1] == owners[start]
+        if start == end and start in owners and owners.get(start - 1) == owners[start]
     ]
 
 
 def _lost(patch, owners):
     """The indexes at which a patch changes a token that has an owner."""
-    return [index for index, aspect, value in patch.changes if owners[index] >= 0]
+    return [index for index, aspect, value in patch.changes if index in owners]
 
 
 def _unlike(patch, other):

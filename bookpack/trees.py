@@ -1,5 +1,7 @@
 """The tree that the tokens of a chapter stand for: its nodes and their children, by gaps."""
 
+from bookpack.chapters import LINE_KINDS
+
 
 def nodes_at(chapter, gap):
     """The indexes of the open tokens of the nodes that are open at a gap, from the outside in."""
@@ -15,28 +17,29 @@ def nodes_at(chapter, gap):
 
 def child_end(chapter, gap):
     """The gap behind the child that begins at a gap; None if none begins there."""
+    return children_end(chapter, gap, 1)
+
+
+def children_end(chapter, gap, count):
+    """The gap behind so many children behind a gap; None if there are fewer."""
+    if count == 0:
+        return gap
+    left = count
     depth = 0
     for index in range(gap, len(chapter)):
         word = chapter[index][0]
         if word == "open":
             depth += 1
-        elif word == "close":
+            continue
+        if word == "close":
             depth -= 1
-        if depth == 0:
-            return index + 1
         if depth < 0:
             return None
+        if depth == 0:
+            left -= 1
+            if left == 0:
+                return index + 1
     return None
-
-
-def children_end(chapter, gap, count):
-    """The gap behind so many children behind a gap; None if there are fewer."""
-    end = gap
-    for _ in range(count):
-        end = child_end(chapter, end)
-        if end is None:
-            return None
-    return end
 
 
 def step_over(counts, token):
@@ -53,3 +56,24 @@ def step_over(counts, token):
 def begins_node(chapter, gap):
     """Whether a node begins at a gap."""
     return gap < len(chapter) and chapter[gap][0] == "open"
+
+
+def is_in_line(chapter, gap):
+    """Whether the innermost node that is open at a gap is a line."""
+    if gap == 0:
+        return False
+    token = chapter[gap - 1]
+    if token[0] == "open":
+        return token[1] in LINE_KINDS
+    return token[0] != "close"
+
+
+def keeps_nodes(chapter, pieces, changes):
+    """Whether pieces and changes only touch glyphs in lines, so that all nodes of a chapter stay as they are."""
+    for start, end, tokens in pieces:
+        if start == end and not is_in_line(chapter, start):
+            return False
+        for token in chapter[start:end] + tokens:
+            if token[0] == "open" or token[0] == "close":
+                return False
+    return all([aspect != "kind" for index, aspect, value in changes])
