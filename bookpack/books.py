@@ -1,7 +1,7 @@
 """Books: their four parts, chains of alternatives, and places with their locators."""
 
 from bookpack.chapters import is_id
-from bookpack.checks import require_chapter, require_within
+from bookpack.checks import require_chapter
 from bookpack.errors import BadBook, BadText, NoChapter, NoItem
 from bookpack.parts import MOST_ELEMENTS, is_chapter_item, is_entry, is_field, is_item, is_slot
 from bookpack.spots import Spot, gap_at, spot_at
@@ -92,9 +92,8 @@ def readable(book, key, *kinds):
 
 def locator(book, key, gap):
     """The text of a place."""
-    chapter = book.chapter(key)
-    require_within("gap", gap, 0, len(chapter))
-    return key + "@" + spot_at(chapter, gap).text()
+    spot = spot_at(book.chapter(key), gap)
+    return key + "@" + spot.text()
 
 
 def locate(book, text):

@@ -6,7 +6,7 @@ from bookpack.checks import require_within
 from bookpack.errors import BadBranch, BadNumber, BookError, Busy, Clash, NoMark
 from bookpack.links import book_links, targets
 from bookpack.moves import Move
-from bookpack.parts import is_chapter_item, leads_out
+from bookpack.parts import leads_out
 from bookpack.patches import Patch
 
 
@@ -167,7 +167,7 @@ def merge_steps(book, ours, theirs):
     seen = {}
     for item in book.plain[1]:
         key = item[0]
-        if key not in seen and is_chapter_item(item):
+        if key not in seen:
             made = _merged(made, key, ours, theirs)
         seen[key] = True
     return made
@@ -178,20 +178,13 @@ def _require_steps(book, steps, side):
         raise BadBranch(side, None)
     now = book
     for number, step in enumerate(steps):
-        if not _is_step(book, step):
+        if not isinstance(step, tuple) or len(step) != 2 or not isinstance(step[1], Patch):
             raise BadBranch(side, number)
         key, patch = step
         try:
             now = now.with_known(key, patch.made_of(now.chapter(key)))
         except BookError:
             raise BadBranch(side, number) from None
-
-
-def _is_step(book, value):
-    if not isinstance(value, tuple) or len(value) != 2:
-        return False
-    key, patch = value
-    return key in book and is_chapter_item(book[key]) and isinstance(patch, Patch)
 
 
 def _merged(book, key, ours, theirs):

@@ -71,7 +71,7 @@ def is_in_line(chapter, gap):
 def keeps_nodes(chapter, pieces, changes):
     """Whether pieces and changes only touch glyphs in lines, so that all nodes of a chapter stay as they are."""
     for start, end, tokens in pieces:
-        if start == end and not is_in_line(chapter, start):
+        if not is_in_line(chapter, start):
             return False
         for token in chapter[start:end] + tokens:
             if token[0] == "open" or token[0] == "close":

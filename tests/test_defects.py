@@ -87,7 +87,7 @@ class Fields(Defects):
             ("2000/01/01", False), ("2000-01-01 ", False), (" 2000-01-01", False), ("+200-01-01", False),
             ("2000-+1-01", False), ("2000-01-+1", False), ("2 00-01-01", False), ("2_00-01-01", False),
             ("2000-01- 1", False), ("-200-01-01", False), ("2000-0101", False), ("2000-01-011", False),
-            ("2000 01-01", False), ("2000-01 01", False), ("yyyy-mm-dd", False), ("2000-010-1", False),
+            ("2000 01-01", False), ("2000-01 01", False), ("yyyy-mm-dd", False), ("2000z01-01", False), ("2000-01z01", False), ("2000-010-1", False),
         ):
             self.found(self.fields(("date", value)), *([] if good else [("bad value", ("fields", 3))]))
 
