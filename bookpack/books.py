@@ -15,7 +15,7 @@ class Book:
         _require_part("items", items, is_item)
         _require_part("slots", slots, is_slot)
         _require_contents(contents)
-        self._fill((fields, items, slots, contents))
+        self._hold((fields, items, slots, contents))
 
     @property
     def plain(self):
@@ -28,13 +28,13 @@ class Book:
     def __eq__(self, other):
         return isinstance(other, Book) and self._plain == other._plain
 
-    def __contains__(self, key):
-        return isinstance(key, str) and key in self._numbers
+    def __contains__(self, x):
+        return isinstance(x, str) and x in self._numbers
 
-    def __getitem__(self, key):
-        if key not in self:
-            raise NoItem(key)
-        return self._plain[1][self._numbers[key]]
+    def __getitem__(self, at):
+        if at not in self:
+            raise NoItem(at)
+        return self._plain[1][self._numbers[at]]
 
     def __iter__(self):
         raise TypeError("a book is not iterated over")
@@ -59,10 +59,10 @@ class Book:
         old = items[number]
         item = (old[0], old[1], chapter, old[3])
         made = Book()
-        made._fill((fields, items[:number] + (item,) + items[number + 1:], slots, contents))
+        made._hold((fields, items[:number] + (item,) + items[number + 1:], slots, contents))
         return made
 
-    def _fill(self, plain):
+    def _hold(self, plain):
         self._plain = plain
         self._numbers = {}
         for number, item in enumerate(plain[1]):

@@ -116,8 +116,6 @@ class Patch:
         place = conflict(self, other)
         if place is not None:
             raise Conflict(place)
-        if other.new_size > MOST_TOKENS:
-            raise BadPatch("size", None)
         return known_patch(other.new_size, rebased_pieces(self, other, first), rebased_changes(self, other))
 
     def _fill(self, size, pieces, changes):
@@ -144,7 +142,7 @@ class Patch:
 
 
 def known_patch(size, pieces, changes):
-    """The patch of what is known to be as it has to be."""
+    """The patch of pieces and changes that are known to be as they have to be; the size is looked at."""
     patch = Patch(size)
     patch._fill(size, pieces, changes)
     return patch

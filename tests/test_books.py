@@ -13,6 +13,7 @@ from tests.making import (
 PARA = line("ab")
 CHAPTER = ("a", "chapter", PARA, None)
 FIGURE = ("f", "figure", "a figure", None)
+ROWS = {"fields": ("f", "v"), "items": FIGURE, "slots": ("a", True), "contents": (0, "One", "a#b")}
 # Objects that are no ids, and some that could be taken for one.
 NO_IDS = (None, True, 1, "", "A", "1a", "a_", "a" * 17, " a", ("a",), ["a"], {"a": 1}, b"a", object())
 
@@ -32,26 +33,14 @@ class Parts(Case):
             self.taken(part, ())
 
     def test_forty_elements(self):
-        rows = {
-            "fields": ("f", "v"),
-            "items": FIGURE,
-            "slots": ("a", True),
-            "contents": (0, "One", "a#b"),
-        }
-        for part, row in rows.items():
+        for part, row in ROWS.items():
             self.taken(part, (row,) * 40)
             self.refused(part, None, (row,) * 41)
             self.refused(part, None, (row,) * 40 + (None,))
             self.refused(part, 39, (row,) * 39 + (None,))
 
     def test_elements_that_are_no_tuples_or_of_another_size(self):
-        rows = {
-            "fields": ("f", "v"),
-            "items": FIGURE,
-            "slots": ("a", True),
-            "contents": (0, "One", "a#b"),
-        }
-        for part, row in rows.items():
+        for part, row in ROWS.items():
             for bad in (list(row), row + (None,), row[:-1], (), None, 1, "ab", {}, row[0], object()):
                 self.refused(part, 1, (row, bad, row))
 

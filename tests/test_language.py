@@ -162,6 +162,25 @@ class Language(unittest.TestCase):
             if found.func.id in ("zip", "enumerate", "reversed"):
                 self.assertNotIsInstance(found.args[0], ast.Name if found.func.id == "reversed" else ast.GeneratorExp)
 
+    def test_generators_are_iterated_at_once(self):
+        made = {row.name for _, row in nodes(ast.FunctionDef)
+                if any(isinstance(found, ast.Yield) for found in ast.walk(row))}
+        self.assertEqual(made, {"chain"})
+        heads = [found.iter for _, found in nodes((ast.For, ast.comprehension))]
+        heads += [found.args[0] for _, found in nodes(ast.Call)
+                  if isinstance(found.func, ast.Name) and found.func.id in ("list", "tuple")]
+        for name, found in nodes(ast.Name):
+            if found.id in made:
+                self.assertTrue([head for head in heads if isinstance(head, ast.Call) and head.func is found], name)
+
+    def test_finally(self):
+        for name, found in nodes(ast.Try):
+            for row in found.finalbody:
+                for inner in ast.walk(row):
+                    self.assertNotIsInstance(inner, (ast.Call, ast.BinOp, ast.Return, ast.Raise, ast.Subscript), name)
+                if isinstance(row, ast.If):
+                    self.assertIsInstance(row.test.ops[0], (ast.Is, ast.IsNot), name)
+
     def test_identity(self):
         for name, found in nodes(ast.Compare):
             for sign, value in zip(found.ops, found.comparators):

@@ -1,4 +1,4 @@
-"""The example of README.md."""
+"""The examples of README.md."""
 
 import unittest
 from pathlib import Path
@@ -7,10 +7,15 @@ README = Path(__file__).resolve().parent.parent / "README.md"
 
 
 class Readme(unittest.TestCase):
-    def test_example(self):
-        code = README.read_text().split("```python\n")[1].split("```")[0]
+    def names(self, number):
+        """What the names of an example stand for when it has run."""
+        code = README.read_text().split("```python\n")[number].split("```")[0]
         names = {}
         exec(code, names)
+        return names
+
+    def test_chapters(self):
+        names = self.names(1)
         chapter, new = names["chapter"], names["new"]
         self.assertEqual([token[1] for token in new], ["para", "a", "para", "head1", "b", "head1"])
         self.assertEqual(names["old"], chapter)
@@ -18,3 +23,16 @@ class Readme(unittest.TestCase):
         self.assertEqual(names["spot_at"](new, 5).text(), "1.1")
         self.assertEqual(names["gap_at"](new, names["Spot"].read("1.1")), 5)
         self.assertEqual(len(names["merged"].result), 7)
+
+    def test_books(self):
+        names = self.names(2)
+        book, outcome, draft = names["book"], names["outcome"], names["draft"]
+        self.assertEqual(names["defects"](book), [])
+        self.assertEqual(names["locator"](book, "one", 4), "one@1.0")
+        self.assertEqual(names["locate"](book, "one@1.0"), ("one", 4))
+        self.assertEqual(outcome.links, [("one", 1, 2, ("one", 1), "kept")])
+        self.assertEqual(outcome.carry("one", 4), ("one2", 1))
+        self.assertEqual(names["outlined"](outcome.book).book.plain[3], ((0, "A", "one2#top"),))
+        self.assertEqual(draft.book, book)
+        self.assertIs(draft.redo(), True)
+        self.assertEqual(draft.where("here"), ("one", 5))
