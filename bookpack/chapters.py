@@ -80,6 +80,7 @@ def first_bad(value):
 
 def first_misplaced(tokens):
     """Where a row of what are tokens stops being the beginning of a chapter; None for a chapter."""
+    # The kinds of the open nodes, from the outside in, behind None for the top.
     kinds = [None]
     # Glyphs can stand at the indexes below this one: at none outside of lines.
     end = 0
@@ -89,11 +90,14 @@ def first_misplaced(tokens):
             if index >= end:
                 return index
         elif word == "open":
+            kind = token[1]
             # Every open node still needs a close token.
-            if not _can_open(token[1], kinds) or index + 1 + len(kinds) > MOST_TOKENS:
+            if end > 0 or len(kinds) > MOST_OPEN or index + 1 + len(kinds) > MOST_TOKENS:
                 return index
-            kinds.append(token[1])
-            end = MOST_TOKENS - len(kinds) + 1 if token[1] in LINE_KINDS else 0
+            if (kind == "item") != (kinds[-1] == "list"):
+                return index
+            kinds.append(kind)
+            end = MOST_TOKENS - len(kinds) + 1 if kind in LINE_KINDS else 0
         elif word == "close":
             if token[1] != kinds[-1]:
                 return index
@@ -106,9 +110,10 @@ def first_misplaced(tokens):
 
 def count_tokens(value):
     """How many elements of a tuple, from the first one on, are tokens."""
-    # Chapters are long and hold few different characters and links, so that each of these is looked at once.
+    # Chapters are long and hold few different characters, links and pairs, so that each of these is looked at once.
     characters = {}
     links = {}
+    pairs = {}
     for index, token in enumerate(value):
         if isinstance(token, tuple) and len(token) == 4:
             word, c, styles, link = token
@@ -122,11 +127,17 @@ def count_tokens(value):
                 and word == "char"
             ):
                 continue
+        elif isinstance(token, tuple) and len(token) == 2:
+            word, name = token
+            if isinstance(word, str) and isinstance(name, str) and (word, name) in pairs:
+                continue
         if not is_token(token):
             return index
         if token[0] == "char":
             characters[token[1]] = True
             links[token[3]] = True
+        else:
+            pairs[(token[0], token[1])] = True
     return len(value)
 
 
@@ -147,11 +158,3 @@ def _are_styles(words):
         if not isinstance(word, str):
             return False
     return words in _STYLE_ROWS
-
-
-def _can_open(kind, kinds):
-    """Whether a node of a kind can begin in nodes of these kinds, from the outside in, None standing for the top."""
-    inner = kinds[-1]
-    if len(kinds) > MOST_OPEN or inner in LINE_KINDS:
-        return False
-    return (kind == "item") == (inner == "list")

@@ -83,7 +83,7 @@ class FirstBad(Case):
             ("char", "a", (), ["a#b"]), ("char", "a", ("slant", "code"), None), ("char", "a", ("code", "code"), None),
             ("char", "a", ("bold",), None), ("char", "a", (), False), ("char", "a", (), ""), ("char", "", (), None),
             ("chars", "a", (), None), ("open", "a", (), None), ("char", "a", ()), ("char", "a", (), None, None), ("anchor",),
-            ("anchor", ANY), ("open", ANY), (ANY, "para"), ("close", ["para"]), ("char", "%", (), None), ("char", "ab", (), None),
+            ("anchor", ANY), ("open", "a"), ("char", "a"), ("a", "a"), ("open", ANY), (ANY, "para"), ("close", ["para"]), ("char", "%", (), None), ("char", "ab", (), None),
             ("char", "\n", (), None), ("char", b"a", (), None), ("char", "a", ("code",) * 20, None), (), None, 1, "char",
         ]
         for value in bad:
