@@ -121,7 +121,7 @@ def count_tokens(value):
                 isinstance(c, str)
                 and c in characters
                 and isinstance(styles, tuple)
-                and (not styles or _are_styles(styles))
+                and (not styles or are_styles(styles))
                 and (link is None or (isinstance(link, str) and link in links))
                 and isinstance(word, str)
                 and word == "char"
@@ -141,6 +141,14 @@ def count_tokens(value):
     return len(value)
 
 
+def are_styles(words):
+    """Whether the elements of a tuple are styles in their order."""
+    for word in words:
+        if not isinstance(word, str):
+            return False
+    return words in _STYLE_ROWS
+
+
 def _is_plain(c):
     return " " <= c <= "~" and ord(c) != _PERCENT
 
@@ -148,13 +156,6 @@ def _is_plain(c):
 def _is_char(c, styles, link):
     if not isinstance(c, str) or len(c) != 1 or not _is_plain(c):
         return False
-    if not isinstance(styles, tuple) or not _are_styles(styles):
+    if not isinstance(styles, tuple) or not are_styles(styles):
         return False
     return link is None or is_link(link)
-
-
-def _are_styles(words):
-    for word in words:
-        if not isinstance(word, str):
-            return False
-    return words in _STYLE_ROWS
