@@ -235,3 +235,27 @@ def random_filling(chance, rows, links, others):
         yield token[:3] + (link,)
         if others and chance.random() < 0.2:
             yield ("image", chance.choice(others))
+
+
+def random_parts(chance):
+    """A random book that may have defects of each sort, and several items of one id."""
+    ids = ("a", "b", "c", "abcdefghijklmnop")
+    texts = ("", " ", "x", " a  b ", "s" * 200, "-<&>~")
+    links = ("a#a", "b#top", "c#b1", "d#x")
+    items = []
+    for _ in range(chance.randint(0, 6)):
+        kind = chance.choice(("chapter", "chapter", "figure", "chapters"))
+        if kind == "chapter":
+            items.append((chance.choice(ids), kind, random_chapter(chance, 4), None))
+        else:
+            items.append((chance.choice(ids), kind, chance.choice(texts), chance.choice((None, *ids, "zz"))))
+    contents = []
+    for _ in range(chance.randint(0, 5)):
+        most = contents[-1][0] + 1 if contents else 0
+        contents.append((chance.randint(0, most), chance.choice((" ", "One", " x  y ", "a" * 80)), chance.choice(links)))
+    return Book(
+        fields=tuple((chance.choice(("title", "language", "date", "x1")), chance.choice(texts)) for _ in range(chance.randint(0, 5))),
+        items=tuple(items),
+        slots=tuple((chance.choice(ids + ("zz",)), chance.random() < 0.5) for _ in range(chance.randint(0, 5))),
+        contents=tuple(contents),
+    )
