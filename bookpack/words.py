@@ -2,13 +2,13 @@
 
 from bookpack.chapters import are_styles
 
-# No number in a text that has a greatest one is greater.
+# No number in a text may have more, and int does not take thousands of them.
 _MOST_DIGITS = 9
 _DIGITS = "0123456789"
 
 
 def read_number(word):
-    """The number that a word writes; None if it is not written like one, or much too great."""
+    """The number that a word writes; None if it is not written like one, or far too great."""
     if not 1 <= len(word) <= _MOST_DIGITS or not all([c in _DIGITS for c in word]):
         return None
     return int(word) if word == "0" or word[0] != "0" else None

@@ -7,11 +7,11 @@ README = Path(__file__).resolve().parent.parent / "README.md"
 
 
 class Readme(unittest.TestCase):
-    def names(self, number):
-        """What the names of an example stand for when it has run."""
-        code = README.read_text().split("```python\n")[number].split("```")[0]
+    def names(self, *numbers):
+        """What the names of examples stand for when these have run one after the other."""
         names = {}
-        exec(code, names)
+        for number in numbers:
+            exec(README.read_text().split("```python\n")[number].split("```")[0], names)
         return names
 
     def test_chapters(self):
@@ -36,3 +36,15 @@ class Readme(unittest.TestCase):
         self.assertEqual(draft.book, book)
         self.assertIs(draft.redo(), True)
         self.assertEqual(draft.where("here"), ("one", 5))
+
+    def test_archives(self):
+        names = self.names(2, 3)
+        book, data, damaged, where = names["book"], names["data"], names["damaged"], names["where"]
+        self.assertEqual([name for name, _ in names["read_archive"](data)], ["bookpack", "manifest", "chapters/one", "items/fig"])
+        self.assertEqual(names["write_chapter"](names["head"]), "<head1><#top>A</head1>\n")
+        self.assertEqual(names["judge"](data), [])
+        self.assertEqual(names["read_book"](data), book)
+        self.assertEqual(names["faults"](damaged), [("bad entry", where), ("gap", where)])
+        self.assertEqual(names["recovered"].lost, ("fig",))
+        self.assertEqual(names["recover"](damaged, data).lost, ())
+        self.assertEqual(names["apply_update"](book, names["update"]), names["recovered"].book)
