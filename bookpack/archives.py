@@ -87,10 +87,8 @@ def _directory_place(data):
 
 def _rows_of(directory):
     """The rows (name, offset, size, check) of a directory; None if it is not formed like one."""
-    if directory[:3] != _DIRECTORY_MARK or len(directory) < 5:
-        return None
     count = number_of(directory[3:5])
-    if count > MOST_ENTRIES:
+    if directory[:3] != _DIRECTORY_MARK or count > MOST_ENTRIES:
         return None
     rows = []
     at = 5

@@ -243,7 +243,7 @@ class BadDirectory(ArchiveCase):
             self.bad(told[:count])
         for at in (0, 1, 2):
             self.bad(told[:at] + (told[at] + 1,) + told[at + 1:])
-        for count in (0, 2, 3, 100, 101, 256, 65535):
+        for count in (0, 2, 3, 100, 101, 256, 257, 513, 65535):
             self.bad(raw.directory(row, count=count))
         for more in ((0,), row, (66,), row[:-1]):
             self.bad(told + more)
@@ -354,6 +354,13 @@ class Rows(ArchiveCase):
     def test_offsets_beyond_the_data(self):
         for offset in (len(self.body), len(self.body) + 1, 1000, 65536, 16777215):
             self.found(self.closed(*self.rows, raw.row("d", offset)), ("bad entry", offset))
+
+    def test_an_entry_with_a_payload_that_is_too_long(self):
+        for size in (150000, 150001):
+            payload = (3,) * size
+            body = raw.entry("a", payload)
+            data = raw.closed(body, raw.row("a", 0, payload))
+            self.found(data, *([("bad entry", 0), ("gap", 0)] if size > 150000 else []))
 
     def test_another_length_or_check(self):
         one, two, three = self.rows

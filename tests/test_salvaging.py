@@ -113,6 +113,13 @@ class Chosen(SalvageCase):
         # Shorter by an octet, with the right check for what is left, it is an entry with an octet behind it.
         self.chosen(raw.entry("a", (1, 2), length=1, told=raw.check((1,))) + TWO, 0, 14)
 
+    def test_payloads_that_are_too_long(self):
+        for size in (150000, 150001):
+            data = raw.entry("a", (3,) * size) + ONE
+            wanted = (0, len(data) - 15) if size == 150000 else (len(data) - 15,)
+            self.assertEqual(tuple(row[0] for row in salvage(data)), wanted)
+            self.assertEqual(remains(data)[0], len(data) if size == 150000 else 15)
+
     def test_payloads_of_other_entries(self):
         for inner in (ONE, ONE + TWO, (0,) + ONE + (0,), TWO + (7,) + THREE, ONE * 3):
             self.chosen(raw.entry("o", inner), 0)
