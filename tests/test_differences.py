@@ -261,6 +261,16 @@ class ShowsLeast(Case):
         patch = Patch(6, ((1, 2, ()), (4, 6, node("section"))), ((0, "kind", "head1"), (3, "kind", "head1")))
         self.assertIs(shows_least(self.ONE, self.OTHER, patch, table), False)
 
+    def test_patches_of_the_right_cost_that_do_not_lead_there(self):
+        one, other = line("ab"), line("ac")
+        table = heights(one, other)
+        self.assertEqual(table[0][0], 2)
+        for patch in (Patch(4, ((2, 3, (ch("d"),)),)), Patch(4, ((1, 3, ()),)), Patch(4, ((1, 1, (B, B)),)),
+                      Patch(4, (), ((0, "kind", "head1"), (3, "kind", "head1")))):
+            self.assertEqual(cost(patch), 2)
+            self.assertIs(shows_least(one, other, patch, table), False)
+        self.assertIs(shows_least(one, other, Patch(4, ((2, 3, (ch("c"),)),)), table), True)
+
     def test_patches_that_cost_more(self):
         table = heights(self.ONE, self.OTHER)
         patch = Patch(6, ((0, 6, self.OTHER),))
