@@ -111,8 +111,9 @@ def _gone_through(data, rows, limit):
     found = []
     entries = {}
     position = 0
-    for name, offset, size, check in rows:
-        if offset < position or name in entries or not _is_told(data, sound, (name, offset, size, check), limit):
+    for row in rows:
+        name, offset = row[:2]
+        if offset < position or name in entries or not _is_told(data, sound, row, limit):
             found.append(("bad entry", offset))
             continue
         if offset > position:
